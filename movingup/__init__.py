@@ -1,0 +1,1 @@
+"""People who move up when somebody leaves."""
