@@ -1,9 +1,9 @@
 """Arrangements: who holds which post, and how people leave and join."""
 
 from movingup.basics import is_person, is_post
-from movingup.charts import path_to, require_chart
+from movingup.charts import require_chart
 from movingup.errors import InvalidArrangement, InvalidPeople, InvalidPerson, InvalidPost
-from movingup.moves import after_departures, depart, posts_under
+from movingup.moves import after_departures, after_joining, all_open, depart, is_open, people_of, posts_under
 
 
 def check_arrangement(chart, value):
@@ -78,15 +78,10 @@ def post_of(chart, arrangement, person):
     return arrangement.index(person)
 
 
-def is_open(chart, arrangement, post):
-    """Tell whether a post of the chart is open."""
-    return arrangement[post] is None and (post == 0 or arrangement[chart[post]] is not None)
-
-
 def open_posts(chart, arrangement):
     """Return the list of the open posts."""
     require_arrangement(chart, arrangement)
-    return [k for k in range(len(chart)) if is_open(chart, arrangement, k)]
+    return all_open(chart, arrangement)
 
 
 def leave(chart, arrangement, *people):
@@ -112,17 +107,12 @@ def join(chart, arrangement, person, post):
         raise InvalidPerson(person)
     if not is_post(post, len(chart)) or not is_open(chart, arrangement, post):
         raise InvalidPost(post)
-    path = path_to(chart, post)
-    people = sorted([person] + [arrangement[k] for k in path[:-1]])
-    holders = list(arrangement)
-    for k, holder in zip(path, people):
-        holders[k] = holder
-    return tuple(holders)
+    return after_joining(chart, arrangement, person, post)
 
 
 def reduced(chart, arrangement, people):
     """Return the arrangement after everybody except for some people has left."""
     require_arrangement(chart, arrangement)
     require_people(arrangement, people)
-    leavers = [person for person in arrangement if person is not None and person not in people]
+    leavers = [person for person in people_of(arrangement) if person not in people]
     return after_departures(chart, arrangement, leavers)

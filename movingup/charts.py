@@ -2,6 +2,7 @@
 
 from movingup.basics import is_post
 from movingup.errors import InvalidChart, InvalidPost
+from movingup.moves import way_down
 
 
 def check_chart(value):
@@ -31,11 +32,7 @@ def path_to(chart, post):
     """Return the list of the posts from the head down to a post."""
     require_chart(chart)
     require_post(chart, post)
-    path = [post]
-    while chart[path[-1]] is not None:
-        path.append(chart[path[-1]])
-    path.reverse()
-    return path
+    return way_down(chart, post)
 
 
 def posts_below(chart, post):

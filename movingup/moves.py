@@ -1,4 +1,13 @@
-"""How people move up. These functions trust their arguments: callers check them."""
+"""How people move up and join. These functions trust their arguments: callers check them."""
+
+
+def way_down(chart, post):
+    """Return the posts from the head down to a post."""
+    way = [post]
+    while chart[way[-1]] is not None:
+        way.append(chart[way[-1]])
+    way.reverse()
+    return way
 
 
 def posts_under(chart):
@@ -7,6 +16,11 @@ def posts_under(chart):
     for k in range(1, len(chart)):
         under[chart[k]].append(k)
     return under
+
+
+def people_of(arrangement):
+    """Return the people who hold posts, from the most senior on."""
+    return sorted([person for person in arrangement if person is not None])
 
 
 def next_in_line(under, holders, post):
@@ -38,3 +52,46 @@ def after_departures(chart, arrangement, leavers):
     for leaver in leavers:
         depart(under, holders, leaver)
     return tuple(holders)
+
+
+def is_open(chart, holders, post):
+    """Tell whether a post of the chart is open."""
+    return holders[post] is None and (post == 0 or holders[chart[post]] is not None)
+
+
+def all_open(chart, holders):
+    """Return the list of the open posts."""
+    return [k for k in range(len(chart)) if is_open(chart, holders, k)]
+
+
+def enter(chart, holders, person, post):
+    """Let a person join the list of holders at an open post."""
+    above = chart[post]
+    # Everybody junior on the path is pushed one post down, so the path stays sorted.
+    while above is not None and holders[above] > person:
+        holders[post] = holders[above]
+        post = above
+        above = chart[post]
+    holders[post] = person
+
+
+def after_joining(chart, arrangement, person, post):
+    """Return the arrangement after a person has joined at an open post."""
+    holders = list(arrangement)
+    enter(chart, holders, person, post)
+    return tuple(holders)
+
+
+def joining_posts(chart, arrangement, people):
+    """Return the posts at which people, from the most senior on, join to lead to this arrangement."""
+    under = posts_under(chart)
+    holders = list(arrangement)
+    posts = []
+    # Leaving undoes joining, so it goes the other way round.
+    for person in sorted(people, reverse=True):
+        post = holders.index(person)
+        for move in depart(under, holders, person):
+            post = move[1]
+        posts.append(post)
+    posts.reverse()
+    return posts

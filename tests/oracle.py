@@ -1,6 +1,6 @@
 """What the tests share: all small cases, wrong values, and results found in a slow way."""
 
-from itertools import permutations, product
+from itertools import combinations, permutations, product
 from random import Random
 
 CHART = (None, 0, 0, 1, 1, 2)
@@ -86,6 +86,29 @@ def random_arrangement(seed, chart, empty=0):
     people = sorted(source.sample(range(10 ** 17, 10 ** 18), len(chart) - empty))
     row = [None] * len(chart)
     for person in people:
+        ready = [k for k in range(len(chart)) if row[k] is None and (k == 0 or row[chart[k]] is not None)]
+        row[source.choice(ready)] = person
+    return tuple(row)
+
+
+def subsets(people):
+    """All sets of people as lists, by their sizes, those of one size in Python's order."""
+    return [list(chosen) for size in range(len(people) + 1) for chosen in combinations(people, size)]
+
+
+def medium_cases():
+    """A few charts of six and seven posts, each with an arrangement, some with empty posts."""
+    for seed in range(6):
+        chart = random_chart(seed, 6 + seed % 2)
+        row = random_arrangement(seed, chart, empty=seed % 3 // 2)
+        yield chart, tuple(None if person is None else people_of(row).index(person) for person in row)
+
+
+def another_arrangement(seed, chart, people):
+    """An arrangement of a chart with exactly these people."""
+    source = Random(seed)
+    row = [None] * len(chart)
+    for person in sorted(people):
         ready = [k for k in range(len(chart)) if row[k] is None and (k == 0 or row[chart[k]] is not None)]
         row[source.choice(ready)] = person
     return tuple(row)

@@ -26,7 +26,41 @@ FUNCTIONS = {
         "count_moves": "(chart, arrangement, leavers)",
         "moves_range": "(chart, arrangement, leavers)",
     },
+    "movingup.wishes": {
+        "check_wishes": "(chart, arrangement, value)",
+        "count_leavers": "(chart, arrangement, wishes, size, *, staying=())",
+        "leavers_at": "(chart, arrangement, wishes, size, index, *, staying=())",
+        "each_leavers": "(chart, arrangement, wishes, size, *, staying=())",
+        "fewest_leavers": "(chart, arrangement, wishes, *, staying=())",
+        "cheapest_leavers": "(chart, arrangement, wishes, prices, *, staying=())",
+    },
+    "movingup.backward": {
+        "departures": "(chart, before, after)",
+        "count_earlier": "(chart, arrangement, count)",
+        "earlier_at": "(chart, arrangement, people, index)",
+        "each_earlier": "(chart, arrangement, people)",
+        "posts_of_joining": "(chart, before, people)",
+        "earlier_index": "(chart, before, people)",
+    },
+    "movingup.orders": {
+        "check_order": "(chart, value)",
+        "count_orders": "(chart)",
+        "order_at": "(chart, index)",
+        "order_index": "(chart, order)",
+        "order_of": "(chart, arrangement)",
+    },
+    "movingup.changes": {
+        "check_plan": "(chart, value)",
+        "play": "(chart, arrangement, plan)",
+        "largest_stay": "(chart, before, after)",
+        "count_changes": "(chart, before, after)",
+        "fewest_changes": "(chart, before, after)",
+        "check_changes": "(chart, before, after, claim)",
+        "count_stays": "(chart, before, after, size)",
+    },
 }
+GENERATORS = {
+    "movingup.arrangements": ["chain"], "movingup.wishes": ["each_leavers"], "movingup.backward": ["each_earlier"]}
 
 
 class Interface(unittest.TestCase):
@@ -46,7 +80,7 @@ class Interface(unittest.TestCase):
         for place, names in FUNCTIONS.items():
             module = importlib.import_module(place)
             found = [name for name in names if inspect.isgeneratorfunction(getattr(module, name))]
-            self.assertEqual(found, ["chain"] if place == "movingup.arrangements" else [])
+            self.assertEqual(found, GENERATORS.get(place, []))
 
 
 if __name__ == "__main__":

@@ -9,6 +9,7 @@ FILES = sorted(path for path in PACKAGE.rglob("*") if "__pycache__" not in path.
 BUILTINS = {
     "len", "range", "enumerate", "zip", "min", "max", "sum", "abs", "sorted", "reversed", "int", "str", "bool",
     "list", "tuple", "dict", "set", "isinstance", "ord", "repr", "any", "all", "divmod", "iter", "next"}
+LIBRARY = {"math": {"gcd", "lcm", "isqrt", "comb", "perm", "factorial"}}
 STATEMENTS = (
     ast.Expr, ast.ImportFrom, ast.FunctionDef, ast.ClassDef, ast.Assign)
 BARRED_NODES = (
@@ -49,6 +50,7 @@ class Files(unittest.TestCase):
 
     def test_imports_name_the_file_that_defines(self):
         known = {"movingup." + path.stem: defined_names(tree) for path, tree in trees()}
+        known.update(LIBRARY)
         for path, tree in trees():
             for node in ast.walk(tree):
                 if isinstance(node, ast.ImportFrom):
@@ -58,8 +60,33 @@ class Files(unittest.TestCase):
                         self.assertIn(name.name, known[node.module], path)
                         self.assertIsNone(name.asname)
 
+    def test_library_names_are_only_called(self):
+        for path, tree in trees():
+            imported = {name.name for node in tree.body if isinstance(node, ast.ImportFrom)
+                        for name in node.names if node.module in LIBRARY}
+            called = {id(node.func) for node in ast.walk(tree) if isinstance(node, ast.Call)}
+            for node in ast.walk(tree):
+                if isinstance(node, ast.Name) and node.id in imported:
+                    self.assertIn(id(node), called, path)
+
+    def test_no_local_name_hides_an_import(self):
+        for path, tree in trees():
+            imported = {name.name for node in tree.body if isinstance(node, ast.ImportFrom) for name in node.names}
+            for node in ast.walk(tree):
+                if isinstance(node, ast.Name) and isinstance(node.ctx, ast.Store):
+                    self.assertNotIn(node.id, imported | BUILTINS, path)
+                if isinstance(node, ast.arg):
+                    self.assertNotIn(node.arg, imported | BUILTINS, path)
+
+    def test_generators_have_names_of_their_own(self):
+        functions = [node for _, tree in trees() for node in ast.walk(tree) if isinstance(node, ast.FunctionDef)]
+        generators = [node.name for node in functions
+                      if any(isinstance(part, (ast.Yield, ast.YieldFrom)) for part in ast.walk(node))]
+        for name in generators:
+            self.assertEqual([node.name for node in functions].count(name), 1)
+
     def test_calls_and_nodes(self):
-        known = {name for _, tree in trees() for name in defined_names(tree)}
+        known = {name for _, tree in trees() for name in defined_names(tree)} | LIBRARY["math"]
         for path, tree in trees():
             for node in ast.walk(tree):
                 self.assertNotIsInstance(node, BARRED_NODES, path)
