@@ -3,7 +3,8 @@
 from movingup.basics import is_person, is_post
 from movingup.charts import require_chart
 from movingup.errors import InvalidArrangement, InvalidPeople, InvalidPerson, InvalidPost
-from movingup.moves import after_departures, after_joining, all_open, depart, is_open, people_of, posts_under
+from movingup.moves import (
+    after_departures, after_joining, all_open, depart, is_open, people_of, place_of, posts_under)
 
 
 def check_arrangement(chart, value):
@@ -73,9 +74,7 @@ def post_of(chart, arrangement, person):
     require_arrangement(chart, arrangement)
     if not is_person(person):
         raise InvalidPerson(person)
-    if person not in arrangement:
-        return None
-    return arrangement.index(person)
+    return place_of(arrangement, person)
 
 
 def open_posts(chart, arrangement):

@@ -1,4 +1,4 @@
-"""What single values are: whole numbers, posts, people, sizes, indexes."""
+"""What single values are: whole numbers, posts, people, sizes, indexes, written numbers."""
 
 from movingup.errors import IndexTooLarge, InvalidNumber
 
@@ -21,6 +21,14 @@ def is_person(value):
 def is_post(value, count):
     """Tell whether a value is one of so many posts."""
     return is_whole(value) and 0 <= value < count
+
+
+def is_numeral(word):
+    """Tell whether a string is a number as texts and the lines of a desk write it."""
+    # isdigit alone takes the digits of all languages.
+    if not word.isascii() or not word.isdigit() or len(word) > 18:
+        return False
+    return word == "0" or not word.startswith("0")
 
 
 def require_amount(number):

@@ -4,7 +4,8 @@ from movingup.arrangements import require_arrangement
 from movingup.basics import is_person, is_post, require_amount
 from movingup.charts import common_post, require_chart
 from movingup.errors import InvalidPlan, PlanBlocked
-from movingup.moves import depart, enter, is_open, joining_posts, people_of, posts_under, way_down
+from movingup.moves import (
+    depart, enter, is_first_open, is_open, joining_posts, people_of, posts_under, way_down)
 from movingup.tallies import added, multiplied, number_at
 
 
@@ -30,19 +31,23 @@ def check_plan(chart, value):
     return None
 
 
-def is_possible(chart, holders, step):
-    """Tell whether a step of a plan is possible."""
+def is_possible(chart, holders, step, strict):
+    """Tell whether a step of a plan is possible; if strict, people join at the smallest open post only."""
     if step[0] == "leave":
         return step[1] in holders
-    return step[1] not in holders and is_open(chart, holders, step[2])
+    if step[1] in holders:
+        return False
+    if strict:
+        return is_first_open(chart, holders, step[2])
+    return is_open(chart, holders, step[2])
 
 
-def carried_out(chart, arrangement, plan):
+def carried_out(chart, arrangement, plan, strict=False):
     """Return the arrangement after a plan, and None or the index of the step at which it stops."""
     under = posts_under(chart)
     holders = list(arrangement)
     for k, step in enumerate(plan):
-        if not is_possible(chart, holders, step):
+        if not is_possible(chart, holders, step, strict):
             return (tuple(holders), k)
         if step[0] == "leave":
             depart(under, holders, step[1])
@@ -51,16 +56,21 @@ def carried_out(chart, arrangement, plan):
     return (tuple(holders), None)
 
 
-def play(chart, arrangement, plan):
-    """Return the arrangement after all steps of a plan."""
-    require_arrangement(chart, arrangement)
+def played(chart, arrangement, plan, strict=False):
+    """Return the arrangement after all steps of a plan, which is checked first."""
     reason = check_plan(chart, plan)
     if reason is not None:
         raise InvalidPlan(reason)
-    after, blocked = carried_out(chart, arrangement, plan)
+    after, blocked = carried_out(chart, arrangement, plan, strict)
     if blocked is not None:
         raise PlanBlocked(blocked)
     return after
+
+
+def play(chart, arrangement, plan):
+    """Return the arrangement after all steps of a plan."""
+    require_arrangement(chart, arrangement)
+    return played(chart, arrangement, plan)
 
 
 def require_both(chart, before, after):

@@ -23,6 +23,11 @@ def people_of(arrangement):
     return sorted([person for person in arrangement if person is not None])
 
 
+def place_of(arrangement, person):
+    """Return the post of a person, or None."""
+    return arrangement.index(person) if person in arrangement else None
+
+
 def next_in_line(under, holders, post):
     """Return the post directly below with the most senior holder, or None."""
     held = [(holders[k], k) for k in under[post] if holders[k] is not None]
@@ -62,6 +67,11 @@ def is_open(chart, holders, post):
 def all_open(chart, holders):
     """Return the list of the open posts."""
     return [k for k in range(len(chart)) if is_open(chart, holders, k)]
+
+
+def is_first_open(chart, holders, post):
+    """Tell whether a post of the chart is the smallest one that is open."""
+    return all_open(chart, holders)[:1] == [post]
 
 
 def enter(chart, holders, person, post):

@@ -10,8 +10,10 @@ from movingup.changes import (
     check_changes, check_plan, count_changes, count_stays, fewest_changes, largest_stay, play)
 from movingup.charts import check_chart, common_post, path_to, posts_below
 from movingup.errors import InvalidPeople, MovingUpError
+from movingup.forecast import count_reaching, highest_posts, holders_after
 from movingup.orders import check_order, count_orders, order_at, order_index, order_of
 from movingup.standing import career, count_moves, moves_range, post_after
+from movingup.texts import read, show
 from movingup.wishes import (
     check_wishes, cheapest_leavers, count_leavers, each_leavers, fewest_leavers, leavers_at)
 from oracle import ARRANGEMENT, CHART, HALF_EMPTY, people_of, random_arrangement, random_chart
@@ -62,11 +64,17 @@ CALLS = (
     (fewest_changes, [CHART, ARRANGEMENT, OTHER]),
     (check_changes, [CHART, ARRANGEMENT, OTHER, PLAN]),
     (count_stays, [CHART, ARRANGEMENT, OTHER, 2]),
+    (holders_after, [CHART, ARRANGEMENT, 1, 2]),
+    (count_reaching, [CHART, ARRANGEMENT, 3, 1]),
+    (highest_posts, [CHART, ARRANGEMENT, 3]),
+    (show, [CHART, HALF_EMPTY]),
+    (read, [show(CHART, HALF_EMPTY)]),
 )
 GENERATORS = (chain, each_leavers, each_earlier)
 # Where a number may be as large as it likes: the function and the place of its argument.
 ANY_NUMBER = (
-    (post_of, 2), (join, 2), (count_leavers, 3), (each_leavers, 3), (count_earlier, 2), (count_stays, 3))
+    (post_of, 2), (join, 2), (count_leavers, 3), (each_leavers, 3), (count_earlier, 2), (count_stays, 3),
+    (holders_after, 3))
 # Where any value may stand.
 ANY_VALUE = (
     (check_chart, 0), (check_arrangement, 1), (check_wishes, 2), (check_order, 1), (check_plan, 1), (check_changes, 3))

@@ -4,6 +4,9 @@ import importlib
 import inspect
 import unittest
 
+from movingup.desk import Desk
+from movingup.office import Office, StrictOffice
+
 FUNCTIONS = {
     "movingup.charts": {
         "check_chart": "(value)",
@@ -58,6 +61,44 @@ FUNCTIONS = {
         "check_changes": "(chart, before, after, claim)",
         "count_stays": "(chart, before, after, size)",
     },
+    "movingup.forecast": {
+        "holders_after": "(chart, arrangement, post, size)",
+        "count_reaching": "(chart, arrangement, person, post)",
+        "highest_posts": "(chart, arrangement, person)",
+    },
+    "movingup.texts": {
+        "show": "(chart, arrangement)",
+        "read": "(text)",
+    },
+    "movingup.office": {
+        "Office": "(chart, arrangement)",
+        "StrictOffice": "(chart, arrangement)",
+    },
+    "movingup.desk": {
+        "Desk": "(chart)",
+    },
+}
+METHODS = {
+    "Office": {
+        "leave": "(self, *people)",
+        "admit": "(self, person, post)",
+        "play": "(self, plan)",
+        "undo": "(self)",
+        "preview": "(self, *people)",
+        "rehearse": "(self, plan)",
+        "log": "(self)",
+        "at": "(self, step)",
+        "posts_of": "(self, person)",
+        "copy": "(self)",
+    },
+    "StrictOffice": {
+        "admit": "(self, person, post)",
+        "play": "(self, plan)",
+        "rehearse": "(self, plan)",
+    },
+    "Desk": {
+        "say": "(self, line)",
+    },
 }
 GENERATORS = {
     "movingup.arrangements": ["chain"], "movingup.wishes": ["each_leavers"], "movingup.backward": ["each_earlier"]}
@@ -81,6 +122,25 @@ class Interface(unittest.TestCase):
             module = importlib.import_module(place)
             found = [name for name in names if inspect.isgeneratorfunction(getattr(module, name))]
             self.assertEqual(found, GENERATORS.get(place, []))
+
+    def test_methods_stand_in_their_classes(self):
+        classes = {"Office": Office, "StrictOffice": StrictOffice, "Desk": Desk}
+        for name, methods in METHODS.items():
+            for method, arguments in methods.items():
+                self.assertEqual(str(inspect.signature(vars(classes[name])[method])), arguments, method)
+
+    def test_class_methods_properties_and_operators(self):
+        own = vars(Office)
+        self.assertEqual(own["WORDS"], ("leave", "join"))
+        for name, arguments in (("in_order", "(chart, order, people)"), ("vacant", "(chart)")):
+            self.assertIsInstance(own[name], classmethod)
+            for kind in (Office, StrictOffice):
+                self.assertEqual(str(inspect.signature(getattr(kind, name))), arguments)
+        for name in ("chart", "arrangement", "people", "head"):
+            self.assertIsInstance(own[name], property)
+        for name in ("__init__", "__len__", "__contains__", "__eq__"):
+            self.assertTrue(inspect.isfunction(own[name]))
+        self.assertEqual(StrictOffice.__bases__, (Office,))
 
 
 if __name__ == "__main__":

@@ -18,7 +18,7 @@ class Examples(unittest.TestCase):
                 compared += 1
             else:
                 exec(code, known)
-        self.assertEqual(compared, 17)
+        self.assertEqual(compared, 29)
 
 
 if __name__ == "__main__":
